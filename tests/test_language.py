@@ -1,0 +1,198 @@
+"""The files of the package keep to the plain part of the language that they are written in.
+
+Not every rule can be seen from outside; these tests look at those that slip in most easily.
+"""
+
+import ast
+import builtins
+import pathlib
+import unittest
+
+FOLDER = pathlib.Path(__file__).resolve().parent.parent / "unpressed"
+FILES = sorted(path for path in FOLDER.rglob("*") if "__pycache__" not in path.parts)
+CALLED_BUILTINS = {
+    "len", "range", "enumerate", "zip", "min", "max", "sum", "abs", "sorted", "reversed", "int", "str", "bool", "list",
+    "tuple", "dict", "isinstance", "ord", "repr", "any", "all", "divmod", "super",
+}
+METHODS = set(
+    "append clear copy count endswith extend find get index insert isalnum isalpha isdigit islower isspace isupper "
+    "items join keys ljust lower lstrip partition pop remove replace reverse rfind rjust rpartition rsplit rstrip "
+    "setdefault split splitlines startswith strip update upper values zfill bit_length __init__".split())
+BARRED_NAMES = set(
+    "mro elements open input law version_info with_traceback add_note register type typing enum namedtuple".split())
+LIBRARY = {"math": {"gcd", "lcm", "isqrt", "comb", "perm", "factorial"}, "heapq": {"heappush", "heappop", "heapify"}}
+BARRED_NODES = (
+    ast.Lambda, ast.Global, ast.Nonlocal, ast.Try, ast.AsyncFunctionDef, ast.Await, ast.Set, ast.SetComp,
+    ast.GeneratorExp, ast.Div, ast.AnnAssign, ast.Import, ast.YieldFrom, ast.NamedExpr, ast.Starred,
+)
+
+
+def trees():
+    return {path: ast.parse(path.read_text(encoding="utf-8")) for path in FILES}
+
+
+def functions_of(tree):
+    return [node for node in ast.walk(tree) if isinstance(node, ast.FunctionDef)]
+
+
+def bound_in(function):
+    """The names that a function binds: its parameters and what it assigns to."""
+    names = {argument.arg for argument in function.args.args + function.args.kwonlyargs}
+    for node in ast.walk(function):
+        if isinstance(node, ast.Name) and isinstance(node.ctx, ast.Store):
+            names.add(node.id)
+    return names
+
+
+def defined_in(tree):
+    """The names that a module itself defines."""
+    names = set()
+    for node in tree.body:
+        if isinstance(node, (ast.FunctionDef, ast.ClassDef)):
+            names.add(node.name)
+        if isinstance(node, ast.Assign):
+            names.update(target.id for target in node.targets)
+    return names
+
+
+class Files(unittest.TestCase):
+    def test_only_plain_python_files(self):
+        self.assertTrue(FILES)
+        for path in FILES:
+            self.assertEqual(path.parent, FOLDER)
+            self.assertEqual(path.suffix, ".py")
+            self.assertFalse(path.name.startswith("test"))
+
+    def test_characters_and_sizes(self):
+        for path in FILES:
+            text = path.read_text(encoding="utf-8")
+            lines = text.split("\n")
+            self.assertLessEqual(len(lines), 399, path)
+            for at, line in enumerate(lines):
+                self.assertLessEqual(len(line), 120, (path, at))
+                self.assertTrue(all(" " <= character <= "~" for character in line), (path, at))
+
+    def test_functions_are_short(self):
+        for path, tree in trees().items():
+            for function in functions_of(tree):
+                self.assertLessEqual(function.end_lineno - function.lineno + 1, 40, (path, function.name))
+
+    def test_everything_public_is_described(self):
+        for path, tree in trees().items():
+            self.assertTrue(ast.get_docstring(tree), path)
+            for node in ast.walk(tree):
+                if isinstance(node, (ast.FunctionDef, ast.ClassDef)) and not node.name.startswith("_"):
+                    self.assertTrue(ast.get_docstring(node), (path, node.name))
+
+
+class Modules(unittest.TestCase):
+    def test_only_plain_things_at_module_level(self):
+        for path, tree in trees().items():
+            for node in tree.body:
+                if isinstance(node, ast.Expr):
+                    self.assertIsInstance(node.value.value, str)
+                elif isinstance(node, ast.Assign):
+                    ast.literal_eval(node.value)
+                    self.assertEqual(len(node.targets), 1)
+                else:
+                    self.assertIsInstance(node, (ast.ImportFrom, ast.FunctionDef, ast.ClassDef), path)
+
+    def test_imports_name_the_file_that_defines(self):
+        found = trees()
+        for path, tree in found.items():
+            for node in ast.walk(tree):
+                if isinstance(node, ast.ImportFrom) and node.module in LIBRARY:
+                    self.assertLessEqual({name.name for name in node.names}, LIBRARY[node.module])
+                elif isinstance(node, ast.ImportFrom):
+                    package, _, file = node.module.partition(".")
+                    self.assertEqual((package, node.level), ("unpressed", 0), path)
+                    names = defined_in(found[FOLDER / f"{file}.py"])
+                    self.assertLessEqual({name.name for name in node.names}, names, path)
+                    self.assertTrue(all(name.asname is None for name in node.names), path)
+
+    def test_no_circles_of_imports(self):
+        follows = {}
+        for path, tree in trees().items():
+            follows[path.stem] = [node.module.partition(".")[2] for node in tree.body if isinstance(node, ast.ImportFrom)]
+        done = []
+        while len(done) < len(follows):
+            ready = [name for name in follows if name not in done
+                     and all(other in done or other == "" for other in follows[name])]
+            self.assertTrue(ready, "files import from each other")
+            done.extend(ready)
+
+
+class Code(unittest.TestCase):
+    def test_no_barred_statements_and_values(self):
+        for path, tree in trees().items():
+            for node in ast.walk(tree):
+                self.assertNotIsInstance(node, BARRED_NODES, (path, getattr(node, "lineno", 0)))
+                if isinstance(node, ast.Constant):
+                    self.assertNotIsInstance(node.value, (float, complex, bytes))
+                if isinstance(node, ast.BinOp) and isinstance(node.op, ast.Pow):
+                    self.assertIsInstance(node.right, ast.Constant, path)
+                if isinstance(node, ast.Constant) and isinstance(node.value, str):
+                    self.assertNotIn("%", node.value, path)
+
+    def test_calls(self):
+        found = trees()
+        own = {node.name for tree in found.values() for node in ast.walk(tree)
+               if isinstance(node, (ast.FunctionDef, ast.ClassDef))}
+        library = set().union(*LIBRARY.values())
+        for path, tree in found.items():
+            for node in ast.walk(tree):
+                if isinstance(node, ast.Call) and isinstance(node.func, ast.Name):
+                    self.assertIn(node.func.id, CALLED_BUILTINS | own | library, path)
+                elif isinstance(node, ast.Call):
+                    self.assertIsInstance(node.func, ast.Attribute, path)
+                    self.assertIn(node.func.attr, METHODS | own, path)
+
+    def test_names(self):
+        for path, tree in trees().items():
+            imported = {name.name for node in tree.body if isinstance(node, ast.ImportFrom) for name in node.names}
+            classes = {node.name for node in tree.body if isinstance(node, ast.ClassDef)}
+            for function in functions_of(tree):
+                bound = bound_in(function)
+                self.assertFalse(bound & (imported | classes), (path, function.name))
+                self.assertFalse((bound | {function.name}) & set(dir(builtins)) - {"__init__"}, (path, function.name))
+                self.assertFalse((bound | {function.name}) & BARRED_NAMES, (path, function.name))
+
+    def test_methods_and_attributes_have_names_of_their_own(self):
+        methods = set()
+        attributes = set()
+        for tree in trees().values():
+            for node in ast.walk(tree):
+                if isinstance(node, ast.ClassDef):
+                    methods.update(part.name for part in node.body if isinstance(part, ast.FunctionDef))
+                if isinstance(node, ast.Attribute) and isinstance(node.ctx, ast.Store):
+                    attributes.add(node.attr)
+        self.assertFalse(methods & attributes)
+        self.assertFalse(attributes & {"items", "keys", "values", "pop", "update", "args", "sort", "format"})
+
+    def test_generators_have_names_of_their_own(self):
+        names = []
+        generators = []
+        for tree in trees().values():
+            for function in functions_of(tree):
+                names.append(function.name)
+                if any(isinstance(node, ast.Yield) for node in ast.walk(function)):
+                    generators.append(function.name)
+        for name in generators:
+            self.assertEqual(names.count(name), 1)
+
+    def test_is_stands_beside_none_true_and_false(self):
+        for path, tree in trees().items():
+            for node in ast.walk(tree):
+                if isinstance(node, ast.Compare) and any(isinstance(op, (ast.Is, ast.IsNot)) for op in node.ops):
+                    self.assertIn(repr(getattr(node.comparators[0], "value", "")), ("None", "True", "False"), path)
+
+    def test_properties_only_read(self):
+        for path, tree in trees().items():
+            for function in functions_of(tree):
+                if function.decorator_list:
+                    for node in ast.walk(function):
+                        self.assertNotIsInstance(node, (ast.Call, ast.Assign, ast.AugAssign), (path, function.name))
+
+
+if __name__ == "__main__":
+    unittest.main()

@@ -1,0 +1,1 @@
+"""Unpressed: one presser that no machine beats."""
