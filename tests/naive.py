@@ -71,3 +71,81 @@ def parts_of(text, sizes):
         at += sizes[turn % len(sizes)]
         turn += 1
     return parts
+
+
+def width(options):
+    """The least w for which 2 ** w is at least the options."""
+    least = 0
+    while 2 ** least < options:
+        least += 1
+    return least
+
+
+def number_bits(number, options):
+    """The number in so many bits, found bit by bit from the last one on."""
+    bits = ""
+    for _ in range(width(options)):
+        bits = "01"[number % 2] + bits
+        number //= 2
+    return bits
+
+
+def piece_words(alphabet, rows):
+    """For each row, the bits of its number in the block."""
+    numbers = place_numbers(alphabet, rows)
+    return [number_bits(1 + number, len(free_places(alphabet, rows[:k])) + 1) for k, number in enumerate(numbers)]
+
+
+def last_words(alphabet, text):
+    """The bits of the last two numbers of the block of the text."""
+    rows, tail = rows_of(text)
+    return number_bits(0, len(free_places(alphabet, rows)) + 1) + number_bits(tail, len(rows) + 1)
+
+
+def block_of(alphabet, text):
+    """The block of the text, by the words of point 19."""
+    return "".join(piece_words(alphabet, rows_of(text)[0])) + last_words(alphabet, text)
+
+
+class Reading:
+    """What a string of bits tells: the texts of its blocks, the letters told so far, and the error if there is one."""
+
+    def __init__(self, alphabet, bits):
+        self.texts = []
+        self.letters = ""
+        self.error = None
+        self.at = 0
+        while self.at < len(bits) and self.error is None:
+            self.read_block(alphabet, bits)
+
+    def read_block(self, alphabet, bits):
+        rows = []
+        pieces = [""]
+        while True:
+            free = free_places(alphabet, rows)
+            number = self.read_number(bits, len(free) + 1)
+            if number is None:
+                return
+            if number == 0:
+                break
+            rows.append(free[number - 1])
+            pieces.append(pieces[rows[-1][0]] + rows[-1][1])
+            self.letters += pieces[-1]
+        tail = self.read_number(bits, len(pieces))
+        if tail is not None:
+            self.letters += pieces[tail]
+            self.texts.append("".join(pieces) + pieces[tail])
+
+    def read_number(self, bits, options):
+        begin = self.at
+        if begin + width(options) > len(bits):
+            self.error = ("ShortStream", begin)
+            return None
+        self.at += width(options)
+        number = 0
+        for bit in bits[begin:self.at]:
+            number = 2 * number + int(bit)
+        if number >= options:
+            self.error = ("BadNumber", begin)
+            return None
+        return number

@@ -9,10 +9,21 @@ FUNCTIONS = {
     "trees": {"free_places": "cut", "free_count": "size count", "free_below": "cut", "branches": "cut number"},
     "ranks": {"text_count": "size count", "place_numbers": "cut", "rank_of": "cut",
               "cut_of_rank": "alphabet count rank", "cuts_with": "alphabet count"},
+    "extremes": {"shortest_total": "size count", "greatest_count": "size length", "least_count": "length",
+                 "count_bound": "size length depth", "text_with": "alphabet length count",
+                 "fullest_text": "alphabet length"},
+    "stretches": {"are_unlike": "text stretches", "inside_counts": "cut", "fill": "length counts", "borders": "cut",
+                  "spread": "cut"},
+    "widths": {"width": "options", "number_bits": "number options"},
+    "blocks": {"press": "alphabet text", "press_all": "alphabet texts", "press_cut": "cut",
+               "pressed_length": "size count", "unpress": "alphabet bits", "read_blocks": "alphabet bits",
+               "block_cuts": "alphabet bits"},
 }
 CLASSES = {
     ("cuts", "Cut"): ("alphabet rows tail", {"__eq__": None}, []),
     ("cutters", "Cutter"): ("alphabet", {"feed": "text", "cut_so_far": "", "clone": ""}, ["letters"]),
+    ("pressers", "Presser"): ("alphabet", {"feed": "text", "end": ""}, ["written", "letters"]),
+    ("unpressers", "Unpresser"): ("alphabet", {"feed": "bits", "close": ""}, ["between", "blocks"]),
 }
 
 

@@ -32,7 +32,7 @@ def cut_of(alphabet, text):
     check_alphabet(alphabet)
     check_text(alphabet, text)
     growth = Growth()
-    growth.read_all(text)
+    growth.read(text)
     return Cut(alphabet, growth.rows, growth.at)
 
 

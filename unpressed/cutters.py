@@ -18,7 +18,7 @@ class Cutter:
         """Reads further letters, and returns the rows of all pieces that were completed by them."""
         check_text(self._alphabet, text)
         self._many_read += len(text)
-        return tuple(self._growth.read_all(text))
+        return tuple(self._growth.read(text))
 
     def cut_so_far(self):
         """The cut of all letters read so far."""

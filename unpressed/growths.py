@@ -12,22 +12,11 @@ class Growth:
         self.at = 0
         self._numbers = {}
 
-    def read(self, letter):
-        """Reads a letter, and returns the row of the piece that it completes, or None."""
-        row = (self.at, letter)
-        if row in self._numbers:
-            self.at = self._numbers[row]
-            return None
-        self.rows.append(row)
-        self._numbers[row] = len(self.rows)
-        self.at = 0
-        return row
-
-    def read_all(self, text):
-        """Reads the letters, and returns the list of the rows of all pieces that they complete."""
+    def read(self, text):
+        """Reads further letters, and returns the list of the rows of all pieces that they complete."""
         before = len(self.rows)
         for letter in text:
-            self.read(letter)
+            self._read_letter((self.at, letter))
         return self.rows[before:]
 
     def clone(self):
@@ -37,6 +26,14 @@ class Growth:
         other.at = self.at
         other._numbers = {row: self._numbers[row] for row in self._numbers}
         return other
+
+    def _read_letter(self, row):
+        if row in self._numbers:
+            self.at = self._numbers[row]
+            return
+        self.rows.append(row)
+        self._numbers[row] = len(self.rows)
+        self.at = 0
 
 
 class FreePlaces:
@@ -86,3 +83,14 @@ class FreePlaces:
             else:
                 high = middle
         return low
+
+
+def rows_at(alphabet, numbers):
+    """The list of the rows of the pieces that have these place numbers."""
+    free = FreePlaces(alphabet)
+    rows = []
+    for number in numbers:
+        row = free.row_at(number)
+        free.take(row)
+        rows.append(row)
+    return rows

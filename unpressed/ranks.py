@@ -3,7 +3,7 @@
 from unpressed.checks import check_alphabet
 from unpressed.cuts import Cut
 from unpressed.errors import BadRank
-from unpressed.growths import FreePlaces
+from unpressed.growths import FreePlaces, rows_at
 from unpressed.trees import free_count
 
 
@@ -44,7 +44,7 @@ def cut_of_rank(alphabet, count, rank):
     for before in reversed(range(count)):
         rest, number = divmod(rest, free_count(size, before))
         numbers.append(number)
-    return Cut(alphabet, _rows_at(alphabet, numbers[::-1]), tail)
+    return Cut(alphabet, rows_at(alphabet, numbers[::-1]), tail)
 
 
 def cuts_with(alphabet, count):
@@ -55,13 +55,3 @@ def cuts_with(alphabet, count):
     while rank < total:
         yield cut_of_rank(alphabet, count, rank)
         rank += 1
-
-
-def _rows_at(alphabet, numbers):
-    free = FreePlaces(alphabet)
-    rows = []
-    for number in numbers:
-        row = free.row_at(number)
-        free.take(row)
-        rows.append(row)
-    return rows
