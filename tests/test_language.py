@@ -21,6 +21,8 @@ METHODS = set(
 BARRED_NAMES = set(
     "mro elements open input law version_info with_traceback add_note register type typing enum namedtuple".split())
 LIBRARY = {"math": {"gcd", "lcm", "isqrt", "comb", "perm", "factorial"}, "heapq": {"heappush", "heappop", "heapify"}}
+MODIFYING = set("append extend insert pop remove reverse clear setdefault update sort add discard".split())
+OPERATORS = {"__rshift__", "__contains__", "__eq__", "__len__"}
 BARRED_NODES = (
     ast.Lambda, ast.Global, ast.Nonlocal, ast.Try, ast.AsyncFunctionDef, ast.Await, ast.Set, ast.SetComp,
     ast.GeneratorExp, ast.Div, ast.AnnAssign, ast.Import, ast.YieldFrom, ast.NamedExpr, ast.Starred,
@@ -189,9 +191,60 @@ class Code(unittest.TestCase):
     def test_properties_only_read(self):
         for path, tree in trees().items():
             for function in functions_of(tree):
-                if function.decorator_list:
+                if [node.id for node in function.decorator_list] == ["property"]:
                     for node in ast.walk(function):
                         self.assertNotIsInstance(node, (ast.Call, ast.Assign, ast.AugAssign), (path, function.name))
+
+
+def run_by_operators(found):
+    """The functions that operators and properties run, by their names, and the paths of their files."""
+    named = {}
+    due = []
+    for path, tree in found.items():
+        for node in ast.walk(tree):
+            if isinstance(node, ast.ClassDef):
+                methods = [part for part in node.body if isinstance(part, ast.FunctionDef)]
+                named.setdefault(node.name, []).extend((path, part) for part in methods if part.name == "__init__")
+        for function in functions_of(tree):
+            named.setdefault(function.name, []).append((path, function))
+            if function.name in OPERATORS or [node.id for node in function.decorator_list] == ["property"]:
+                due.append((path, function))
+    reached = []
+    while due:
+        path, function = due.pop()
+        if (path, function) not in reached:
+            reached.append((path, function))
+            calls = [node.func for node in ast.walk(function) if isinstance(node, ast.Call)]
+            names = {getattr(call, "id", getattr(call, "attr", None)) for call in calls} - {"__init__"} - MODIFYING
+            due.extend(other for name in names for other in named.get(name, []))
+    return reached
+
+
+class Operators(unittest.TestCase):
+    def test_what_they_run_changes_only_what_it_made(self):
+        reached = run_by_operators(trees())
+        self.assertLessEqual({"_rules_behind", "run", "check_text", "_reached_of"}, {part.name for _, part in reached})
+        for path, function in reached:
+            for node in ast.walk(function):
+                place = (path, function.name, getattr(node, "lineno", 0))
+                if isinstance(node, (ast.Attribute, ast.Subscript)) and isinstance(node.ctx, ast.Store):
+                    new_object = isinstance(node, ast.Attribute) and function.name == "__init__"
+                    self.assertTrue(new_object or self.is_made(function, node.value), place)
+                if isinstance(node, ast.AugAssign):
+                    self.assertIsInstance(node.target, ast.Name, place)
+                    self.assertIsInstance(node.value, ast.Constant, place)
+                    self.assertIs(type(node.value.value), int, place)
+                if isinstance(node, ast.Call) and isinstance(node.func, ast.Attribute) and node.func.attr in MODIFYING:
+                    self.assertTrue(self.is_made(function, node.func.value), place)
+
+    def is_made(self, function, value):
+        """True if the value is a local variable that is only ever assigned new lists and dicts."""
+        if not isinstance(value, ast.Name):
+            return False
+        assigned = [node.value for node in ast.walk(function) if isinstance(node, ast.Assign)
+                    for target in node.targets if isinstance(target, ast.Name) and target.id == value.id]
+        made = (ast.List, ast.Dict, ast.ListComp, ast.DictComp)
+        return bool(assigned) and all(isinstance(part, made) for part in assigned)
 
 
 if __name__ == "__main__":

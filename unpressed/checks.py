@@ -17,6 +17,11 @@ def is_letter(alphabet, value):
     return isinstance(value, str) and len(value) == 1 and value in alphabet
 
 
+def is_bits(value):
+    """True if the value is a string of bits."""
+    return isinstance(value, str) and all([bit in "01" for bit in value])
+
+
 def is_alphabet(alphabet):
     """True if the string is an alphabet."""
     if not 1 <= len(alphabet) <= GREATEST_SIZE:

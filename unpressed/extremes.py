@@ -60,7 +60,7 @@ def text_with(alphabet, length, count):
     check_alphabet(alphabet)
     if not least_count(length) <= count <= greatest_count(len(alphabet), length):
         return None
-    texts = _first_texts(alphabet, count)
+    texts = first_texts(alphabet, count)
     others = [text for text in texts if text != alphabet[0] * len(text)]
     longest = count - len(others)
     total = shortest_total(len(alphabet), count)
@@ -77,11 +77,12 @@ def fullest_text(alphabet, length):
     """The first letters of all texts that are not empty, written one after the other in the order of texts."""
     check_alphabet(alphabet)
     # One text more than fit has a letter at each place.
-    texts = _first_texts(alphabet, greatest_count(len(alphabet), length) + 1)
+    texts = first_texts(alphabet, greatest_count(len(alphabet), length) + 1)
     return "".join(texts)[:length]
 
 
-def _first_texts(alphabet, many):
+def first_texts(alphabet, many):
+    """The first texts that are not empty, so many of them, in the order of texts."""
     texts = []
     level = [""]
     while len(texts) < many:
