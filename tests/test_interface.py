@@ -18,13 +18,36 @@ FUNCTIONS = {
     "blocks": {"press": "alphabet text", "press_all": "alphabet texts", "press_cut": "cut",
                "pressed_length": "size count", "unpress": "alphabet bits", "read_blocks": "alphabet bits",
                "block_cuts": "alphabet bits"},
+    "streams": {"joined": "alphabet streams", "cut_stream": "alphabet bits index", "fused": "alphabet bits",
+                "replaced": "alphabet bits index letter", "removed": "alphabet bits index",
+                "inserted": "alphabet bits index letter"},
+    "sameness": {"same_writing": "one two", "least_machine": "machine"},
+    "blockmachines": {"block_machine": "alphabet length"},
+    "averages": {"total_bits": "machine length", "lightest": "machine length", "heaviest": "machine length",
+                 "weight_sum": "machine length"},
+    "pairs": {"are_twins": "machine one two", "starting_pairs": "machine", "pair_moves": "machine pair",
+              "walk_room": "machine"},
+    "readbacks": {"comes_back": "machine", "is_readback_paper": "machine heights table"},
+    "holds": {"hold": "machine", "is_hold_paper": "machine bits levels",
+              "is_open_paper": "machine begin first first_ring second second_ring"},
+    "readers": {"read_back": "machine bits last"},
+    "floors": {"shared_total": "count share", "floor_bits": "standings count"},
 }
 CLASSES = {
     ("cuts", "Cut"): ("alphabet rows tail", {"__eq__": None}, []),
     ("cutters", "Cutter"): ("alphabet", {"feed": "text", "cut_so_far": "", "clone": ""}, ["letters"]),
     ("pressers", "Presser"): ("alphabet", {"feed": "text", "end": ""}, ["written", "letters"]),
     ("unpressers", "Unpresser"): ("alphabet", {"feed": "bits", "close": ""}, ["between", "blocks"]),
+    ("looks", "Pressed"): ("alphabet bits", {"letter_at": "index", "stretch": "start end", "trail": "index",
+                                             "places": "word", "letter_count": "letter", "__len__": None,
+                                             "__contains__": None}, []),
+    ("machines", "Machine"): ("alphabet rules", {"run": None, "last_after": "text", "__call__": "text", "plain": None,
+                                                 "__rshift__": None, "__eq__": None}, []),
+    ("readers", "Reader"): ("machine", {"feed": "bits", "finish": "last"}, ["certain", "seen"]),
 }
+# Made by the program alone: their fields.
+MADE = {("readbacks", "Readback"): "holds heights table one two",
+        ("holds", "Hold"): "bits levels begin first first_ring second second_ring"}
 
 
 def parameters_of(function):
@@ -59,6 +82,25 @@ class Interface(unittest.TestCase):
                 self.assertIn(method, own)
                 if parameters is not None:
                     self.assertEqual(parameters_of(own[method]), ["self", *parameters.split()], method)
+
+    def test_start_is_passed_by_name_alone(self):
+        found = inspect.signature(importlib.import_module("unpressed.machines").Machine.run).parameters
+        self.assertEqual(list(found), ["self", "text", "start"])
+        self.assertEqual((found["text"].kind, found["start"].kind), (found["self"].kind, inspect.Parameter.KEYWORD_ONLY))
+        self.assertEqual((found["start"].default, type(found["start"].default)), (0, int))
+
+    def test_plain_is_static(self):
+        machine = importlib.import_module("unpressed.machines").Machine
+        self.assertIsInstance(vars(machine)["plain"], staticmethod)
+        self.assertEqual(parameters_of(machine.plain), ["alphabet"])
+
+    def test_objects_that_the_program_makes(self):
+        plain = importlib.import_module("unpressed.machines").Machine.plain("ab")
+        for (file, name), fields in MADE.items():
+            module = importlib.import_module(f"unpressed.{file}")
+            made = {"Readback": "comes_back", "Hold": "hold"}[name]
+            self.assertEqual(sorted(vars(getattr(module, made)(plain))), sorted(fields.split()))
+            self.assertEqual(getattr(module, name).__module__, f"unpressed.{file}")
 
     def test_properties_are_defined_in_their_classes(self):
         for (file, name), (_parameters, _methods, properties) in CLASSES.items():
