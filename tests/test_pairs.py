@@ -167,6 +167,15 @@ class Room(Checked):
         self.same(walk_room(above), 20025)
         self.refused(TooLarge, comes_back, above, number=20025)
 
+    def test_one_standing(self):
+        many = Machine("a", [[(0, "0" * 40)]])
+        for bits in (25, 10):
+            many = many >> Machine("01", [[(0, "0" * bits), (0, "1")]])
+        self.same((len(many("a")), walk_room(many)), (10000, 20001))
+        self.refused(TooLarge, comes_back, many, number=20001)
+        fewer = Machine("a", [[(0, "0" * 9999)]])
+        self.same((walk_room(fewer), comes_back(fewer).holds, read_back(fewer, "0" * 9999, 0)), (19999, True, "a"))
+
     def test_it_comes_before_twins(self):
         silent = Machine("a", [[((p + 1) % 11, "0")] for p in range(11)]) >> Machine(
             "01", [[((p + 1) % 13, ""), (0, "")] for p in range(13)])

@@ -103,6 +103,41 @@ class ComesBack(Checked):
         machine = Machine("ab", [[(1, "0"), (0, "1")], [(1, ""), (2, "1")], [(2, "0"), (2, "0")]])
         self.fails_with(machine, "a", "aa")
 
+    def several_ways(self, far, near, ring):
+        """A machine with three ways to twins: behind `far` letters, by two texts of `near` + 1 letters, by a ring.
+
+        A way that is 0 is left out. All other letters lead to the last standing, by words that tell the ways apart.
+        """
+        kinds = ["100"] * (1 + far) + ["101"] * max(0, ring - 1) + ["110"] * near + ["111"] * near + [""]
+        last = len(kinds) - 1
+        rules = [[(last, kind + naive.number_bits(k, 4)) for k in range(4)] for kind in kinds]
+        firsts, seconds = (list(range(last - many * near, last - many * near + near)) for many in (2, 1))
+        for way, letter, word in [(list(range(1 + far)), 0, None), (firsts + [last], 0, "0"), (seconds + [last], 0, "0"),
+                                  ([0, *range(1 + far, far + ring), 0], 3, "")]:
+            for here, after in zip(way, way[1:]):
+                rules[here][letter] = (after, rules[here][letter][1] if word is None else word)
+        if far:
+            rules[far][:2] = [(last, "0"), (last, "0")]
+        if near:
+            rules[0][1:3] = [(firsts[0], "0"), (seconds[0], "0")]
+        if not ring:
+            rules[0][3] = (last, "10011")
+        return Machine("abcd", rules)
+
+    def test_the_shortest_of_several_ways(self):
+        many = 0
+        for far in range(7):
+            for near in range(7):
+                for ring in range(6):
+                    machine = self.several_ways(far, near, ring)
+                    if walk_room(machine) <= 20000 and (far or near or ring):
+                        answer = comes_back(machine)
+                        self.same(are_twins(machine, answer.one, answer.two), True)
+                        ways = [far and 2 * far + 2, near and 2 * near + 2, ring]
+                        self.same(len(answer.one + answer.two), min(letters for letters in ways if letters))
+                        many += 1
+        self.assertGreater(many, 150)
+
     def test_twins_with_many_letters(self):
         # After the first letters one run writes 39 bits a letter, the other one 40.
         machine = Machine("ab", [[(1, "0" * 40), (1, "0" * 39)], [(1, "0" * 40), (1, "0" * 39)]])

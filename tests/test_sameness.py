@@ -1,5 +1,6 @@
 """Point 30: machines that write the same."""
 
+import random
 import unittest
 
 from tests import naive, naive_machines
@@ -132,6 +133,47 @@ class Least(Checked):
                 self.assertIs(type(least), Machine)
                 self.same((least.alphabet, least.rules), (alphabet, self.expected(machine)))
                 self.same(same_writing(machine, least), None)
+
+    def refined(self, rules):
+        """For each standing a number of its kind: kinds are parted as long as the rules tell them apart."""
+        kinds = [0] * len(rules)
+        while True:
+            told = [tuple((kinds[after], word) for after, word in row) for row in rules]
+            found = list(dict.fromkeys(told))
+            kinds, before = [found.index(one) for one in told], kinds
+            if len(set(kinds)) == len(set(before)):
+                return kinds
+
+    def test_many_standings(self):
+        for seed in range(150):
+            dice = random.Random(seed)
+            many = dice.randint(10, 60)
+            size = dice.randint(1, 3)
+            plan = [[dice.randrange(many) if dice.random() < 0.3 else min(many - 1, p + dice.randint(0, 2))
+                     for _ in range(size)] for p in range(many)]
+            rules = [[(after, "1" if dice.random() < 0.03 else "0") for after in row] for row in plan]
+            machine = Machine("abc"[:size], rules)
+            kinds = self.refined(rules)
+            self.same(least_machine(machine).standings, len({kinds[p] for p in machine.reached}))
+            self.same(same_writing(machine, least_machine(machine)), None)
+
+    def test_classes_of_many_kinds(self):
+        # These seeds need classes that are parted while they are still to part others.
+        hard = [501, 2558, 4434, 4539, 4998, 5258, 5378, 6170, 8121, 8434, 8538, 9222, 9704, 11977, 12153, 12767, 12827,
+                14176, 15871, 16097, 18112, 19599, 21692, 25182, 26437]
+        for seed in hard + list(range(300)):
+            dice = random.Random(seed)
+            many, size, kinds = dice.randint(4, 14), dice.randint(1, 3), dice.randint(2, 4)
+            often = dice.choice([0.2, 0.5, 0.7, 0.9])
+            liked = [dice.randrange(many) for _ in range(dice.randint(1, 3))]
+            rules = [[(dice.choice(liked) if dice.random() < often else dice.randrange(many), "") for _ in range(size)]
+                     for _ in range(many)]
+            for row in rules:
+                row[0] = (row[0][0], "0" * dice.randrange(kinds))
+            machine = Machine("abc"[:size], rules)
+            told = self.refined(rules)
+            self.same(least_machine(machine).standings, len({told[p] for p in machine.reached}))
+            self.same(same_writing(machine, least_machine(machine)), None)
 
     def test_machines_that_write_the_same_have_one(self):
         for alphabet in ("a", "ab", "abcdef"):
