@@ -220,7 +220,52 @@ def run_by_operators(found):
     return reached
 
 
+def attributes_of(found):
+    """The names of all attributes that the package assigns."""
+    return {node.attr for tree in found.values() for node in ast.walk(tree)
+            if isinstance(node, ast.Attribute) and isinstance(node.ctx, ast.Store)}
+
+
+def held_calls(found):
+    """The calls, in what operators and properties run, of what might be passed or held instead of a method."""
+    held = attributes_of(found)
+    calls = []
+    for path, function in run_by_operators(found):
+        for node in ast.walk(function):
+            name = getattr(getattr(node, "func", None), "id", None)
+            attribute = getattr(getattr(node, "func", None), "attr", None)
+            if name in bound_in(function) or attribute in held:
+                calls.append((function.name, name or attribute))
+    return calls
+
+
 class Operators(unittest.TestCase):
+    def test_what_they_run_calls_nothing_that_they_are_passed_or_hold(self):
+        self.assertEqual(held_calls(trees()), [])
+
+    def test_calls_of_what_is_passed_or_held_are_found(self):
+        lines = """
+class Bad:
+    def __init__(self, index):
+        self.index = index
+class Row:
+    def __rshift__(self, other):
+        return _sum(self, len)
+    def __contains__(self, item):
+        return item in self.told()
+    @property
+    def place(self):
+        return "ab".index("b")
+    def told(self):
+        return self.rows.index(0)
+    def outside(self):
+        return self.rows.index(1)
+def _sum(row, call):
+    return call(row.told())
+"""
+        found = held_calls({"rows": ast.parse(lines)})
+        self.assertEqual(sorted(found), [("_sum", "call"), ("place", "index"), ("told", "index")])
+
     def test_what_they_run_changes_only_what_it_made(self):
         reached = run_by_operators(trees())
         self.assertLessEqual({"_rules_behind", "run", "check_text", "_reached_of"}, {part.name for _, part in reached})

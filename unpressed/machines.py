@@ -36,7 +36,8 @@ class Machine:
         words = []
         standing = start
         for letter in text:
-            standing, word = self.rules[standing][self.alphabet.index(letter)]
+            # `index` is also a field of errors, so what an operator runs does not call it.
+            standing, word = self.rules[standing][self.alphabet.find(letter)]
             words.append(word)
         return ("".join(words), standing)
 
