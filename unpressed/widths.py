@@ -12,3 +12,8 @@ def number_bits(number, options):
         return ""
     digits = f"{number:b}"
     return digits.zfill(width(options))
+
+
+def whole_log(number):
+    """The greatest whole number `g` for which 2 ** g is at most the number."""
+    return number.bit_length() - 1
