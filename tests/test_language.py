@@ -12,7 +12,7 @@ FOLDER = pathlib.Path(__file__).resolve().parent.parent / "unpressed"
 FILES = sorted(path for path in FOLDER.rglob("*") if "__pycache__" not in path.parts)
 CALLED_BUILTINS = {
     "len", "range", "enumerate", "zip", "min", "max", "sum", "abs", "sorted", "reversed", "int", "str", "bool", "list",
-    "tuple", "dict", "isinstance", "ord", "repr", "any", "all", "divmod", "super",
+    "tuple", "dict", "isinstance", "ord", "repr", "any", "all", "divmod", "super", "iter", "type",
 }
 METHODS = set(
     "append clear copy count endswith extend find get index insert isalnum isalpha isdigit islower isspace isupper "
@@ -24,7 +24,7 @@ LIBRARY = {"math": {"gcd", "lcm", "isqrt", "comb", "perm", "factorial"}, "heapq"
 MODIFYING = set("append extend insert pop remove reverse clear setdefault update sort add discard".split())
 OPERATORS = {"__rshift__", "__contains__", "__eq__", "__len__"}
 BARRED_NODES = (
-    ast.Lambda, ast.Global, ast.Nonlocal, ast.Try, ast.AsyncFunctionDef, ast.Await, ast.Set, ast.SetComp,
+    ast.Lambda, ast.Global, ast.Nonlocal, ast.AsyncFunctionDef, ast.Await, ast.Set, ast.SetComp,
     ast.GeneratorExp, ast.Div, ast.AnnAssign, ast.Import, ast.YieldFrom, ast.NamedExpr, ast.Starred,
 )
 
@@ -193,7 +193,37 @@ class Code(unittest.TestCase):
             for function in functions_of(tree):
                 if [node.id for node in function.decorator_list] == ["property"]:
                     for node in ast.walk(function):
-                        self.assertNotIsInstance(node, (ast.Call, ast.Assign, ast.AugAssign), (path, function.name))
+                        self.assertNotIsInstance(node, (ast.Assign, ast.AugAssign), (path, function.name))
+                        if isinstance(node, ast.Call):
+                            self.assertIn(getattr(node.func, "id", None), ("len", "sum"), (path, function.name))
+
+    def test_only_errors_of_the_program_are_caught(self):
+        errors = {node.name for node in trees()[FOLDER / "errors.py"].body if isinstance(node, ast.ClassDef)}
+        for path, tree in trees().items():
+            for node in ast.walk(tree):
+                if isinstance(node, ast.Try):
+                    self.assertEqual(node.finalbody, [], path)
+                    for handler in node.handlers:
+                        self.assertIn(getattr(handler.type, "id", None), errors, path)
+
+    def test_iter_and_type_have_one_form_each(self):
+        for path, tree in trees().items():
+            named = [node.value for node in ast.walk(tree) if isinstance(node, ast.Attribute) and node.attr == "__name__"]
+            methods = [node for node in functions_of(tree) if node.name == "__iter__"]
+            returned = [method.body[-1].value for method in methods]
+            for node in ast.walk(tree):
+                if isinstance(node, ast.Call) and getattr(node.func, "id", None) == "type":
+                    self.assertIn(node, named, path)
+                if isinstance(node, ast.Call) and getattr(node.func, "id", None) == "iter":
+                    self.assertIn(node, returned, path)
+            for method in methods:
+                self.assertEqual(len(method.body), 1)
+
+    def test_the_end_of_a_block_only_assigns(self):
+        found = [function for tree in trees().values() for function in functions_of(tree) if function.name == "__exit__"]
+        self.assertEqual(len(found), 1)
+        for node in ast.walk(found[0]):
+            self.assertNotIsInstance(node, (ast.Call, ast.Subscript, ast.BinOp, ast.Compare, ast.For, ast.While, ast.Raise))
 
 
 def run_by_operators(found):

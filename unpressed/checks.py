@@ -3,7 +3,9 @@
 from unpressed.errors import BadAlphabet, BadLetter, NotBits
 
 LETTERS = "0123456789abcdefghijklmnopqrstuvwxyz"
+DIGITS = "0123456789"
 GREATEST_SIZE = 6
+LONGEST_NAME = 12
 
 
 def is_whole(value):
@@ -32,6 +34,13 @@ def is_alphabet(alphabet):
             return False
         previous = letter
     return True
+
+
+def is_name(name):
+    """True if the string is a name of a file."""
+    if not 1 <= len(name) <= LONGEST_NAME or name[0] in DIGITS:
+        return False
+    return all([character in LETTERS for character in name])
 
 
 def check_alphabet(alphabet):

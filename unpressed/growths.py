@@ -19,6 +19,10 @@ class Growth:
             self._read_letter((self.at, letter))
         return self.rows[before:]
 
+    def piece_at(self, row):
+        """The number of the piece with this row, or None if there is none yet."""
+        return self._numbers.get(row)
+
     def clone(self):
         """A growth of its own that has read the same."""
         other = Growth()
