@@ -201,6 +201,10 @@ class LengthChances(Checked):
                     self.assertLessEqual(told[0], told[1])
                 sums = [sum(Fraction(stake, total) * sums[after] for after, stake in moves) for total, moves in rules]
 
+    def test_from_standing_0_on_if_nothing_is_told(self):
+        self.same([length_chance(TWO, 1), length_chance(TWO, 1, start=0), length_chance(TWO, 1, start=1)], [(5, 6), (5, 6), (4, 5)])
+        self.same([chance(TWO, "b"), chance(TWO, "b", start=0), chance(TWO, "b", start=1)], [(1, 2), (1, 2), (4, 5)])
+
     def test_nothing_is_kept_back_if_all_is_bet(self):
         bettor = Bettor("abc", [(7, [(1, 1), (0, 2), (1, 4)]), (3, [(0, 0), (0, 3), (1, 0)])])
         for length in range(21):

@@ -1,5 +1,7 @@
 """Words of which none is a beginning of another one."""
 
+from unpressed.widths import number_bits
+
 
 def first_words(lengths):
     """Words with these numbers of bits, given out from the shortest to the longest, each the first that is left."""
@@ -10,7 +12,7 @@ def first_words(lengths):
     for length, index in sorted([(length, index) for index, length in enumerate(lengths)]):
         number = number << (length - bits)
         bits = length
-        words[index] = f"{number:b}".zfill(bits)
+        words[index] = number_bits(number, 1 << bits)
         number += 1
     return words
 

@@ -10,7 +10,6 @@ MOST_TABLES = 256
 
 def best_one(alphabet, text):
     """A machine with one standing, whose texts come back, that writes the fewest bits for the text."""
-    check_alphabet(alphabet)
     # With one standing, no words from which all texts come back are shorter than those of an instant machine.
     return best_moves(alphabet, [[0] * len(alphabet)], text)
 
