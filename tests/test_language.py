@@ -219,11 +219,138 @@ class Code(unittest.TestCase):
             for method in methods:
                 self.assertEqual(len(method.body), 1)
 
-    def test_the_end_of_a_block_only_assigns(self):
-        found = [function for tree in trees().values() for function in functions_of(tree) if function.name == "__exit__"]
-        self.assertEqual(len(found), 1)
-        for node in ast.walk(found[0]):
-            self.assertNotIsInstance(node, (ast.Call, ast.Subscript, ast.BinOp, ast.Compare, ast.For, ast.While, ast.Raise))
+
+
+def asks_by_own_methods(found):
+    """True if a class has a method that Python may run for a test of a value alone or beside a literal."""
+    return any(function.name in ("__eq__", "__len__") for tree in found.values() for function in functions_of(tree))
+
+
+def is_place(node):
+    """True for a name, and for an attribute of such."""
+    return isinstance(node, ast.Name) or isinstance(node, ast.Attribute) and is_place(node.value)
+
+
+def is_literal(node):
+    return isinstance(node, ast.Constant) and node.value is not Ellipsis
+
+
+def is_exit_test(node, own_methods):
+    """True for what L6 lets an `if` in `__exit__` ask, in a package with or without such own methods."""
+    if isinstance(node, ast.BoolOp):
+        return all(is_exit_test(part, own_methods) for part in node.values)
+    if isinstance(node, ast.UnaryOp):
+        return isinstance(node.op, ast.Not) and is_exit_test(node.operand, own_methods)
+    if is_place(node):
+        return not own_methods and getattr(node, "id", None) != "kind"
+    if not isinstance(node, ast.Compare) or len(node.ops) > 1 or not is_place(node.left):
+        return False
+    if isinstance(node.ops[0], (ast.Is, ast.IsNot)):
+        return getattr(node.comparators[0], "value", 0) is None
+    told = isinstance(node.ops[0], (ast.Eq, ast.NotEq, ast.Lt, ast.LtE, ast.Gt, ast.GtE))
+    return told and is_literal(node.comparators[0]) and not own_methods and getattr(node.left, "id", None) != "kind"
+
+
+def is_exit_row(node):
+    """True for the rows without a test that the package may have in `__exit__`; L6 names some more."""
+    if isinstance(node, ast.Pass):
+        return True
+    if isinstance(node, ast.Return):
+        return node.value is None or any(getattr(node.value, "value", 0) is told for told in (None, False))
+    if not isinstance(node, ast.Assign) or len(node.targets) > 1:
+        return False
+    if isinstance(node.targets[0], ast.Name):
+        return isinstance(node.value, ast.Attribute) and getattr(node.value.value, "id", None) == "self"
+    return is_place(node.targets[0]) and (is_place(node.value) or is_literal(node.value))
+
+
+def exit_faults(rows, own_methods):
+    """The numbers of the rows that cannot stand in `__exit__`, those within an `if` included."""
+    faults = []
+    for node in rows:
+        if isinstance(node, ast.If):
+            if not is_exit_test(node.test, own_methods):
+                faults.append(node.test.lineno)
+            faults.extend(exit_faults(node.body + node.orelse, own_methods))
+        elif not is_exit_row(node):
+            faults.append(node.lineno)
+    return faults
+
+
+def exits_of(found):
+    """The `__exit__` methods of the package."""
+    return [function for tree in found.values() for function in functions_of(tree) if function.name == "__exit__"]
+
+
+class Ends(unittest.TestCase):
+    TOLD = ["self.a is None", "self.a is not None", "self.a.b is None", "kept is None", "kind is None",
+            "kind is not None", "not self.a is None", "not (self.a is None or kind is None)",
+            "self.a is None and kind is not None and not self.b is None"]
+    ONLY_WITHOUT_OWN_METHODS = ["self.a", "kept", "not self._is_kept", "self.a == 1", "self.a != 'b'", "kept >= 3",
+                                "self.a is None and self.b", "kind is None or not kept"]
+    NEVER = ["self.a is True", "self.a is not False", "self.a is kept", "self.a == self.b", "3 <= kept", "kept == -1",
+             "self.a()", "len(self.a)", "self.a[0]", "self.a in (1, 2)", "0 < kept < 3", "-kept", "self.a + 1", "True",
+             "None is None", "self.a if kept else self.b", "kind", "not kind", "kind == 1", "self.a() is None"]
+
+    def faults_of(self, test, own_methods):
+        return exit_faults(ast.parse(f"if {test}:\n    self.a = self.b").body, own_methods)
+
+    def test_the_end_of_a_block_has_only_such_rows(self):
+        found = trees()
+        exits = exits_of(found)
+        self.assertEqual(len(exits), 1)
+        self.assertTrue(asks_by_own_methods(found))
+        for function in exits:
+            self.assertEqual(exit_faults(function.body, True), [])
+            self.assertEqual([argument.arg for argument in function.args.args], ["self", "kind", "value", "trace"])
+            names = [node for node in ast.walk(function) if isinstance(node, ast.Name)]
+            self.assertFalse({node.id for node in names} & {"value", "trace"})
+            assigned = [node.id for node in names if isinstance(node.ctx, ast.Store)]
+            self.assertEqual(len(assigned), len(set(assigned)))
+
+    def test_tests_as_they_are_told(self):
+        for own_methods in (False, True):
+            for test in self.TOLD:
+                self.assertEqual(self.faults_of(test, own_methods), [], test)
+            for test in self.ONLY_WITHOUT_OWN_METHODS:
+                self.assertEqual(self.faults_of(test, own_methods), [1] if own_methods else [], test)
+            for test in self.NEVER:
+                self.assertEqual(self.faults_of(test, own_methods), [1], test)
+
+    def test_rows_as_they_are_told(self):
+        for row, told in (("pass", True), ("return", True), ("return None", True), ("return False", True),
+                          ("net = self.net", True), ("net.now = self.rows", True), ("self.a.b = net", True),
+                          ("self.a = 'b'", True), ("return 0", False), ("return self.a", False),
+                          ("return self.a()", False), ("net = net.now", False), ("net = 1", False),
+                          ("self.a = -1", False), ("self.a = self.b()", False), ("self.a[0] = net", False),
+                          ("a = b = self.net", False), ("self.a, self.b = net", False), ("self.told()", False),
+                          ("del net", False), ("raise", False), ("assert net", False)):
+            self.assertEqual(exit_faults(ast.parse(row).body, False), [] if told else [1], row)
+
+    def test_own_methods_are_seen(self):
+        for name, told in (("__eq__", True), ("__len__", True), ("__contains__", False), ("many", False)):
+            tree = ast.parse(f"class Row:\n    def {name}(self):\n        return 0")
+            self.assertEqual(asks_by_own_methods({"rows": tree, "other": ast.parse("NORTH = 0")}), told)
+
+    def test_faults_in_every_depth_are_found(self):
+        lines = """
+class Row:
+    def __exit__(self, kind, value, trace):
+        net = self.net
+        if self.held is None:
+            net.rows = self.rows
+            if not self.done:
+                net.now = 0
+                net.shut()
+        elif self.done == 1:
+            net.rows = []
+        else:
+            return True
+        raise KeyError
+"""
+        rows = exits_of({"rows": ast.parse(lines)})[0].body
+        self.assertEqual(exit_faults(rows, True), [7, 9, 10, 11, 13, 14])
+        self.assertEqual(exit_faults(rows, False), [9, 11, 13, 14])
 
 
 def run_by_operators(found):

@@ -103,6 +103,28 @@ class Trials(Checked):
                         one.keep()
                 self.same(("x" in packer, "y" in packer, "w" in packer), (outer and not inner, outer and inner, outer))
 
+    def test_an_error_that_ends_trials_within_one_another(self):
+        for outer in (False, True):
+            for inner in (False, True):
+                packer = filled()
+                before = state(packer)
+                error = Wrong("told")
+                with self.assertRaises(Wrong) as caught:
+                    with Trial(packer) as one:
+                        if outer:
+                            one.keep()
+                        packer.put("x", "ab")
+                        with Trial(packer) as two:
+                            packer.put("y", "ab")
+                            if inner:
+                                two.keep()
+                            packer.drop("x")
+                            raise error
+                self.assertIs(caught.exception, error)
+                self.same(("x" in packer, "y" in packer), (outer and not inner, outer and inner))
+                if not outer:
+                    self.same(state(packer), before)
+
     def test_kept_inside_and_taken_back_outside(self):
         packer = filled()
         before = state(packer)

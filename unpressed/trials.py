@@ -9,7 +9,8 @@ class Trial:
     def __init__(self, packer):
         self._packer = packer
         self._before = packer.files
-        self._is_kept = False
+        # None until it is kept: at the end of a block, `is None` is all that may be asked.
+        self._kept = None
 
     def __enter__(self):
         self._before = self._packer.files
@@ -17,12 +18,12 @@ class Trial:
 
     def __exit__(self, kind, value, trace):
         packer = self._packer
-        if not self._is_kept:
+        if self._kept is None:
             packer.files = self._before
 
     def keep(self):
         """Lets all stay that is done in the block."""
-        self._is_kept = True
+        self._kept = True
 
 
 def perform(packer, deeds):
